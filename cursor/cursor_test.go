@@ -100,6 +100,8 @@ func TestGivesUp(t *testing.T) {
 		"Byte that may not be":       {"ab", func(c *Cursor) { c.Raw(1); c.Byte(no) }, 1, api.ErrMalformed},
 		"Byte with more read":        {"abc", func(c *Cursor) { c.Byte(func(byte, int) bool { c.Raw(2); return false }) }, 0, api.ErrMalformed},
 		"Raw at the end":             {"abc", func(c *Cursor) { c.Raw(4) }, 3, api.ErrTruncated},
+		"Raw twice":                  {"abc", func(c *Cursor) { c.Raw(1); c.Raw(3) }, 3, api.ErrTruncated},
+		"Raw twice in a limit":       {"abc", func(c *Cursor) { c.Within(2, func() { c.Raw(1); c.Raw(2) }) }, 2, api.ErrMalformed},
 		"Raw of very many":           {"abc", func(c *Cursor) { c.Raw(math.MaxInt) }, 3, api.ErrTruncated},
 		"Raw beyond the limit":       {"abc", func(c *Cursor) { c.Within(2, func() { c.Raw(3) }) }, 2, api.ErrMalformed},
 		"Raw beyond both":            {"abc", func(c *Cursor) { c.Within(3, func() { c.Raw(4) }) }, 3, api.ErrMalformed},
@@ -128,7 +130,7 @@ func TestForGood(t *testing.T) {
 		"Name":   func(c *Cursor) { c.Name(span.Span{Max: span.Endless}) },
 		"Sint":   func(c *Cursor) { c.Sint(7, span.Span{Max: span.Endless}) },
 		"Uint":   func(c *Cursor) { c.Uint(func(int) []span.Range { return []span.Range{{Low: 0, High: 9}} }) },
-		"Within": func(c *Cursor) { c.Within(1, func() { c.Raw(1) }) },
+		"Within": func(c *Cursor) { c.Within(0, func() {}) },
 	}
 	for name, again := range tries {
 		back := false
@@ -276,6 +278,7 @@ func TestUint(t *testing.T) {
 func TestUintExamples(t *testing.T) {
 	items := func(r int) []span.Range { return []span.Range{span.Counts(span.Span{Min: 1, Max: 1}, span.Span{}, r)} }
 	all := func(int) []span.Range { return []span.Range{{Low: 0, High: 1<<32 - 1}} }
+	endless := func(r int) []span.Range { return []span.Range{{Low: uint64(span.Endless - r), High: 0}} }
 	for _, x := range []struct {
 		b     string
 		limit int
@@ -292,6 +295,7 @@ func TestUintExamples(t *testing.T) {
 		{"\x80\x80\x80\x80\x80\x00", -1, all, 0, 4, api.ErrMalformed},
 		{"\x80\x80\x80\x80", -1, all, 0, 4, api.ErrTruncated},
 		{"\x80\x80\x80\x80\x00", 5, all, 0, 5, api.OK},
+		{"\x80\x00", -1, endless, 0, 2, api.OK},
 		{"\x80\x80\x80\x80\x00", 4, all, 0, 3, api.ErrMalformed},
 	} {
 		v, n, e := told(x.b, x.limit, func(c *Cursor) value { return c.Uint(x.want) })
@@ -360,6 +364,9 @@ func TestSintExamples(t *testing.T) {
 		{"\x80\x80ab", 4, 32, span.Span{Min: 2, Max: 2}, 0, 1, api.ErrMalformed},
 		{"\x00abc", 4, 32, span.Span{Min: 2, Max: 2}, 0, 0, api.ErrMalformed},
 		{"\x00", -1, 99, end, 0, 1, api.OK},
+		{"\xff\xff\xff\xff\xff\xff\xff\xff\xff\x01", -1, 99, end, 0, 9, api.ErrMalformed},
+		{"\x80\x80\x80\x80\x80\x80\x80\x80\x80\x7f", -1, 65, end, math.MinInt64, 10, api.OK},
+		{"\x01", -1, -7, end, 0, 0, api.ErrMalformed},
 	} {
 		v, n, e := told(x.b, x.limit, func(c *Cursor) value { return c.Sint(x.bits, x.behind) })
 		if e == api.OK && v != x.v || n != x.n || e != x.err {

@@ -307,6 +307,35 @@ func TestWrongAt(t *testing.T) {
 	}
 }
 
+// TestBlockDigits: a block's number has five digits at most, whatever may stand behind it.
+func TestBlockDigits(t *testing.T) {
+	behind := func(op.Op) (span.Span, bool) { return span.Span{Min: 0, Max: 9}, true }
+	for _, x := range []struct {
+		b     string
+		place int
+		err   api.Errno
+		index uint32
+	}{
+		{"\x02\xff\xff\xff\xff\x8f", 5, api.ErrMalformed, 0},
+		{"\x02\xff\xff\xff\xff\x10", 5, api.ErrMalformed, 0},
+		{"\x02\xff\xff\xff\xff\x0f", 9, api.OK, 1<<32 - 1},
+		{"\x02\xff\xff\xff\x40", 4, api.ErrMalformed, 0},
+		{"\x02\xff\xff\xff\x3f", 9, api.OK, 1<<27 - 1},
+		{"\x02\xff\xff\x3f", 9, api.OK, 1<<20 - 1},
+		{"\x02\xff\x3f", 9, api.OK, 1<<13 - 1},
+		{"\x02\x3f", 9, api.OK, 63},
+	} {
+		b := x.b
+		if x.err == api.OK {
+			b += "\xff\xff\xff\xff\xff\xff\xff\xff"[:9-len(b)]
+		}
+		i, n, e, _ := told(b, 9, behind)
+		if n != x.place || e != x.err || e == api.OK && i.Block != (BlockType{Kind: 2, Index: x.index}) {
+			t.Errorf("P7.2: %x: %v %d %d", b, i.Block, n, e)
+		}
+	}
+}
+
 // TestWithoutLimit reads ahead of what has no bound.
 func TestWithoutLimit(t *testing.T) {
 	r := rand.New(rand.NewSource(3))
@@ -349,6 +378,7 @@ func parts() []func(i *Instr) {
 		func(i *Instr) { i.Raw = "0123456789abcdef" },
 		func(i *Instr) { i.Raw = "\x00\x01\x02\x03\x04\x05\x06\x07\x08\x09\x1f\x1e\x1d\x1c\x1b\x1a" },
 		func(i *Instr) { i.Raw = "\x00\x01\x02\x03\x04\x05\x06\x07\x08\x09\x1f\x1e\x1d\x1c\x1b\x80" },
+		func(i *Instr) { i.Raw = "\x00\x01\x02\x03\x04\x05\x06\x07\x08\x09\x1f\x1e\x1d\x1c\x1b\x20" },
 		func(i *Instr) { i.Lane = 1 },
 		func(i *Instr) { i.Lane = 2 },
 		func(i *Instr) { i.Lane = 15 },

@@ -83,6 +83,12 @@ func TestGreatSpans(t *testing.T) {
 			t.Errorf("P2.1: Times(%d) = %v", n, got)
 		}
 	}
+	if got := (Span{1, 3}).Times(Endless / 3); got != (Span{Endless / 3, Endless - 1}) {
+		t.Errorf("P2.1: Times just below the bound: %v", got)
+	}
+	if got := (Span{1, 1}).Times(Endless + 1); got != (Span{Endless, Endless}) {
+		t.Errorf("P2.1: Times just above the bound: %v", got)
+	}
 	if got := (Span{0, 5}).Times(math.MaxInt); got != (Span{0, Endless}) {
 		t.Errorf("P2.1: Times of no least: %v", got)
 	}
@@ -209,6 +215,7 @@ func TestFitsGreat(t *testing.T) {
 		{[]Range{{1<<63 - 1, math.MaxUint64}}, 0, 63, 9, 63, false},
 		{[]Range{{1<<63 - 1, 1<<63 - 1}}, 0, 0, 9, 63, true},
 		{[]Range{{1 << 63, math.MaxUint64}}, 0, 0, 9, 63, false},
+		{[]Range{{math.MaxUint64, math.MaxUint64}}, 5, 62, 9, 63, false},
 		{[]Range{{1 << 31, 1 << 31}}, 0, 28, 1, 32, true},
 		{[]Range{{1 << 32, 1 << 32}}, 0, 28, 1, 32, false},
 	} {
